@@ -1,0 +1,1 @@
+"""Quotedthreads: whose a quoted line is, for all threads."""

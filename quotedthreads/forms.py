@@ -1,0 +1,22 @@
+"""Which values are signs, marks and names."""
+
+from quotedthreads.limits import SIGNS
+
+_LETTERS = "abcdefghijklmnopqrstuvwxyz"
+_LETTERS_AND_DIGITS = "abcdefghijklmnopqrstuvwxyz0123456789"
+_LONGEST_NAME = 8
+
+
+def is_sign(value):
+    # The length is asked first: a longer piece of SIGNS, and "", are `in` it, too.
+    return isinstance(value, str) and len(value) == 1 and value in SIGNS
+
+
+def is_marks(value):
+    return isinstance(value, str) and all([sign in SIGNS for sign in value])
+
+
+def is_name(value):
+    if not isinstance(value, str) or not 1 <= len(value) <= _LONGEST_NAME:
+        return False
+    return value[0] in _LETTERS and all([letter in _LETTERS_AND_DIGITS for letter in value])
