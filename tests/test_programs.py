@@ -258,3 +258,12 @@ class Refused(unittest.TestCase):
         self.assert_cases(0, ((">", 1, ">"), ELSE))
         self.assert_cases(0, (([">"], False, ">"), ELSE))
         self.assert_cases(0, ((">", False, [">"]), ELSE))
+
+    def test_nothing_that_is_passed_is_changed(self):
+        row = [">", False, ">"]
+        cases = [row, ELSE]
+        name = ["two"]
+        self.assert_cases(None, cases)
+        self.assert_cases(0, (row, ELSE))
+        self.assert_name(name)
+        self.assertEqual(([">", False, ">"], [[">", False, ">"], ELSE], ["two"]), (row, cases, name))
