@@ -50,19 +50,19 @@ class Program:
 
     def treat(self, marks, own):
         """What the program makes of marks, None if the line is left out."""
-        begin, _, put = self._cases[self.taken(marks)]
+        if not is_marks(marks):
+            raise InvalidMarks(marks)
         if not is_sign(own):
             raise InvalidSign(own)
-        if put is None:
-            return None
-        return put.replace("@", own) + marks[len(begin):]
+        made = _made(self._cases, marks)
+        # Marks have no @ of their own: each one there is of the put.
+        return None if made is None else made.replace("@", own)
 
     def taken(self, marks):
         """The index of the case that fits."""
         if not is_marks(marks):
             raise InvalidMarks(marks)
-        # The last case fits all marks, so there is a first one that fits.
-        return min([index for index, case in enumerate(self._cases) if _fits(case, marks)])
+        return _taken(self._cases, marks)
 
     def __eq__(self, other):
         # Texts are equal exactly if names and cases are: each case is written in one way only.
@@ -82,20 +82,46 @@ def unlike(one, other):
         raise NotAProgram(one)
     if not isinstance(other, Program):
         raise NotAProgram(other)
-    for marks in _marks_that_tell():
-        for own in SIGNS:
-            if one.treat(marks, own) != other.treat(marks, own):
-                return (marks, own)
+    begins = [begin for begin, _, _ in one.cases + other.cases]
+    for marks in _marks_that_tell(begins):
+        made, likewise = _made(one.cases, marks), _made(other.cases, marks)
+        if made != likewise:
+            return (marks, _own_that_tells(made, likewise))
     return None
 
 
-def _marks_that_tell():
-    """All marks of at most two signs, in their order.
+def _marks_that_tell(begins):
+    """Marks in their order: the first ones that programs with these begins treat unlike are among them.
 
     No case looks beyond the second sign, and no only case fits two signs or more: what stands
     behind the second sign stays as it is, so programs that are unlike are so for such marks.
     """
-    return ["", *SIGNS, *[first + second for first in SIGNS for second in SIGNS]]
+    firsts = _signs_that_tell([begin[:1] for begin in begins])
+    marks = ["", *firsts]
+    for first in firsts:
+        seconds = [begin[1] for begin in begins if len(begin) == 2 and begin[0] == first]
+        marks.extend([first + second for second in _signs_that_tell(seconds)])
+    return marks
+
+
+def _signs_that_tell(begun):
+    """The signs that begins have at a place, and the first one that none has, in their order.
+
+    The same cases fit all signs that none has there, and leave them as they are: programs that
+    treat the first of these signs alike treat all of them alike.
+    """
+    others = [sign for sign in SIGNS if sign not in begun]
+    telling = begun + others[:1]
+    return [sign for sign in SIGNS if sign in telling]
+
+
+def _own_that_tells(made, likewise):
+    """The first own sign with which two unlike makings differ, their @ being exchanged for it."""
+    first, second = SIGNS[:2]
+    if made is None or likewise is None or made.replace("@", first) != likewise.replace("@", first):
+        return first
+    # They differ only where an @ stands against the first sign: the second one tells them apart.
+    return second
 
 
 def _first_wrong(cases):
@@ -130,9 +156,24 @@ def _is_else(case):
     return begin == "" and not only
 
 
+def _taken(cases, marks):
+    """The index of the first case that fits."""
+    index = 0
+    # The last case fits all marks.
+    while not _fits(cases[index], marks):
+        index += 1
+    return index
+
+
 def _fits(case, marks):
     begin, only, _ = case
     return marks == begin if only else marks.startswith(begin)
+
+
+def _made(cases, marks):
+    """What cases make of marks, with each @ of the put as it is; None if the line is left out."""
+    begin, _, put = cases[_taken(cases, marks)]
+    return None if put is None else put + marks[len(begin):]
 
 
 def _row_of(case):

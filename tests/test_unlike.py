@@ -1,3 +1,5 @@
+import random
+import sys
 import unittest
 
 from quotedthreads.errors import NotAProgram
@@ -9,6 +11,36 @@ PLAIN = Program("plain", (ELSE,))
 
 def program(*cases):
     return Program("p", cases)
+
+
+def made_up(draw):
+    """A program of few signs, so that another one of them is often like it."""
+    signs = draw.choice(("#", "|>", "*#", SIGNS))
+    cases = []
+    for _ in range(draw.randint(0, 4)):
+        only = draw.choice((False, True))
+        begin = "".join(draw.choices(signs, k=draw.randint(0, 1) if only else draw.randint(1, 2)))
+        cases.append((begin, only, draw.choice((begin, "@" + begin, "@", "#", "*", "", None))))
+    return program(*cases, ("", False, draw.choice(("#", "@", "", None))))
+
+
+def with_one_case_else(one, draw):
+    cases = list(one.cases)
+    at = draw.randrange(len(cases))
+    begin, only, put = cases[at]
+    cases[at] = (begin, only, draw.choice(("@", "#", "*", "#@", "@#", begin, None, put)))
+    return program(*cases)
+
+
+def calls_of(action):
+    """How many functions an action calls, those of Python among them."""
+    called = []
+    sys.setprofile(lambda frame, event, given: called.append(event))
+    try:
+        action()
+    finally:
+        sys.setprofile(None)
+    return len([event for event in called if event in ("call", "c_call")])
 
 
 def first_difference(one, other, marks):
@@ -111,6 +143,37 @@ class Unlike(unittest.TestCase):
             for other in made[::3]:
                 short = first_difference(one, other, marks)
                 self.assertEqual(short, unlike(one, other))
+
+    def test_made_up_ones_as_the_document_tells_it(self):
+        marks = marks_up_to(2)
+        draw = random.Random(5)
+        found = []
+        for _ in range(300):
+            one = made_up(draw)
+            for other in (made_up(draw), with_one_case_else(one, draw), Program("other", one.cases)):
+                wanted = first_difference(one, other, marks)
+                self.assertEqual(wanted, unlike(one, other), f"{one}\n{other}")
+                self.assertEqual(wanted, unlike(other, one), f"{one}\n{other}")
+                found.append(wanted and (len(wanted[0]), wanted[1]))
+        for kind in (None, (0, "#"), (1, "#"), (2, "#"), (0, "*"), (1, "*")):
+            self.assertIn(kind, found)
+
+    def test_all_signs_begun(self):
+        one = program(("#", False, "#"), ("*", False, "*"), ("+", False, "+"), (":", False, ":"), ("", False, ""))
+        other = program(("=", False, "="), (">", False, ">"), ("|", True, "|"), ("|#", False, "|#"), ("", False, ""))
+        self.assert_unlike(None, one, other)
+        self.assert_unlike(("", "#"), one, program(*other.cases[:-1], ("", False, "#")))
+        self.assert_unlike(("|#", "#"), one, program(*other.cases[:3], ("|#", False, "#"), other.cases[-1]))
+
+    def test_few_steps(self):
+        # Only marks that the begins tell of are looked at: all of them with each sign take some 17000 calls.
+        cases = ((">>", False, ">"), ("|", True, "@"), ("#", False, "@@"), (">", False, ""), ("", False, "@>"))
+        reported = Program("a", cases)
+        apart = program((">>", False, ""), ("##", False, ""), ("||", False, ""), ("::", False, ""), ("", False, ""))
+        apart_too = program(("=*", False, ""), ("+*", False, ""), ("**", False, ""), ("#*", False, ""), ("", False, ""))
+        for one, other in ((reported, reported), (reported, PLAIN), (apart, apart_too), (apart, apart)):
+            with self.subTest(one=str(one), other=str(other)):
+                self.assertLess(calls_of(lambda: unlike(one, other)), 600)
 
     def test_no_programs(self):
         for value in [*STRANGE, str(PLAIN), repr(PLAIN), "plain", (ELSE,), (PLAIN,), [PLAIN]]:
