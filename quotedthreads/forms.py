@@ -1,4 +1,4 @@
-"""Which values are signs, marks and names."""
+"""Which values are signs, marks, names and tuples of strings."""
 
 from quotedthreads.limits import SIGNS
 
@@ -20,3 +20,11 @@ def is_name(value):
     if not isinstance(value, str) or not 1 <= len(value) <= _LONGEST_NAME:
         return False
     return value[0] in _LETTERS and all([letter in _LETTERS_AND_DIGITS for letter in value])
+
+
+def are_strings(value, many):
+    """Whether a value is a tuple of so many strings.
+
+    Only such values are looked up: one of another class may say that it is equal to anything.
+    """
+    return isinstance(value, tuple) and len(value) == many and all([isinstance(part, str) for part in value])

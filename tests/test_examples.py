@@ -12,6 +12,35 @@ PROGRAMS = '''
 ['|', '>|', ('', '#'), 'program signed\\nonly: @\\nelse: >', 'Program two of 2 cases']
 '''
 
+BOOKS = '''
+>>> from quotedthreads.books import Book
+>>> from quotedthreads.programs import Program
+>>> two = Program("two", ((">>", False, ">>"), ("", False, ">")))
+>>> book = Book((("ann", ">"), ("bob", "|")), (two,), (("bob", "two", "ann"),))
+>>> [book.names, book.signs, book.own("bob"), book.with_signs(("#", ":")).signs, repr(book), str(book)]
+[('ann', 'bob'), '>|', '|', '#:>', 'Book of 2 people', \
+'person ann >\\nperson bob |\\nprogram two\\nbegin >>: >>\\nelse: >\\nanswer bob two ann']
+'''
+
+THREADS = '''
+>>> from quotedthreads.books import Book
+>>> from quotedthreads.threads import led, possible
+>>> book = Book.read("person ann >\\nperson bob |\\nprogram plain\\nelse: >\\nprogram two\\n\
+begin >>: >>\\nelse: >\\nanswer bob plain ann\\nanswer ann two bob")
+>>> [led(book, "ann", (("bob", "plain"), ("ann", "two"), ("bob", "plain"))), possible(book, "ann")]
+[(('ann', ''), ('bob', '>'), ('ann', '>>'), ('bob', '>>>')), (('bob', 'plain'),)]
+'''
+
+MAILS = '''
+>>> from quotedthreads.books import Book
+>>> from quotedthreads.mails import Mail
+>>> book = Book.read("person ann >\\nperson bob |\\nprogram two\\nbegin >>: >>\\nonly: @\\nelse: >\\n\
+answer bob two ann\\nanswer ann two bob")
+>>> mail = Mail(book, "ann", ("hi", "lunch?")).answered("bob", "two", ("yes",)).answered("ann", "two", left=(1,))
+>>> [str(mail), mail.writers, mail.lines, repr(mail)]
+['| yes\\n>> lunch?', ('bob', 'ann'), (('|', 'yes'), ('>>', 'lunch?')), 'Mail of 2 lines from ann']
+'''
+
 TEXT = """program two
 begin >>: >>
 only: @
@@ -30,6 +59,15 @@ class Examples(unittest.TestCase):
 
     def test_programs_as_the_document_shows_them(self):
         self.assert_runs(PROGRAMS, "programs", 5)
+
+    def test_books_as_the_document_shows_them(self):
+        self.assert_runs(BOOKS, "books", 5)
+
+    def test_threads_as_the_document_shows_them(self):
+        self.assert_runs(THREADS, "threads", 4)
+
+    def test_mails_as_the_document_shows_them(self):
+        self.assert_runs(MAILS, "mails", 5)
 
     def test_the_text_that_the_document_shows(self):
         from quotedthreads.programs import Program

@@ -3,7 +3,7 @@ import unittest
 
 from quotedthreads.errors import InvalidText
 from quotedthreads.programs import Program
-from tests.values import ELSE, STRANGE, many_programs
+from tests.values import ELSE, STRANGE, changed, many_programs
 
 TEXT = "program two\nbegin >>: >>\nonly: @\nonly >: |>\nbegin #: gone\nelse: >"
 PUT = "(gone|none|[#*+:=>|@]{1,3})"
@@ -12,17 +12,6 @@ RIGHT = re.compile(
     f"(\n(begin [#*+:=>|]{{1,2}}|only [#*+:=>|]|only): {PUT}){{0,4}}"
     f"\nelse: {PUT}"
 )
-
-
-def changed(text):
-    """All texts with a character less, more, another one, or two neighbours exchanged."""
-    letters = "\n #*+:=>|@agonelsbiyp0A"
-    for at in range(len(text) + 1):
-        yield text[:at] + text[at + 1:]
-        yield text[:at] + text[at:at + 2][::-1] + text[at + 2:]
-        for letter in letters:
-            yield text[:at] + letter + text[at:]
-            yield text[:at] + letter + text[at + 1:]
 
 
 class Read(unittest.TestCase):

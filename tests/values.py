@@ -46,9 +46,29 @@ STRANGE = [
 
 ELSE = ("", False, ">")
 
+# Strings that are no names; other values that are none are in STRANGE.
+NO_NAMES = ["", "abcdefghi", "a" * 100, "Ann", "aNn", "2ann", "0", " ann", "ann ", "ann\n", "a b", "a_b", "a-b", ">"]
+# Strings that are no signs.
+NO_SIGNS = ["", "@", "a", " ", "\n", ">>", "#*", ">|", "=>", "> ", ">\n", SIGNS, "none"]
+
+
+def plain(name):
+    return Program(name, (ELSE,))
+
 
 def marks_up_to(longest, signs=SIGNS):
     return ["".join(row) for length in range(longest + 1) for row in product(signs, repeat=length)]
+
+
+def changed(text):
+    """All texts with a character less, more, another one, or two neighbours exchanged."""
+    letters = "\n #*+:=>|@agonelsbiyp0A"
+    for at in range(len(text) + 1):
+        yield text[:at] + text[at + 1:]
+        yield text[:at] + text[at:at + 2][::-1] + text[at + 2:]
+        for letter in letters:
+            yield text[:at] + letter + text[at:]
+            yield text[:at] + letter + text[at + 1:]
 
 
 def many_programs():
