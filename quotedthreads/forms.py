@@ -1,6 +1,6 @@
-"""Which values are signs, marks, names and tuples of strings."""
+"""Which values are signs, marks, names, tuples of strings, integers and counts."""
 
-from quotedthreads.limits import SIGNS
+from quotedthreads.limits import MOST_COUNT, SIGNS
 
 _LETTERS = "abcdefghijklmnopqrstuvwxyz"
 _LETTERS_AND_DIGITS = "abcdefghijklmnopqrstuvwxyz0123456789"
@@ -28,3 +28,11 @@ def are_strings(value, many):
     Only such values are looked up: one of another class may say that it is equal to anything.
     """
     return isinstance(value, tuple) and len(value) == many and all([isinstance(part, str) for part in value])
+
+
+def is_integer(value):
+    return isinstance(value, int) and not isinstance(value, bool)
+
+
+def is_count(value):
+    return is_integer(value) and 0 <= value <= MOST_COUNT

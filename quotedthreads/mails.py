@@ -2,7 +2,7 @@
 
 from quotedthreads.books import check_book, check_person
 from quotedthreads.errors import InvalidLeft, InvalidTexts, UnknownAnswer
-from quotedthreads.forms import are_strings
+from quotedthreads.forms import are_strings, is_integer
 from quotedthreads.threads import made_of
 
 _MOST_TEXTS = 20
@@ -80,9 +80,5 @@ def _check_left(left, many):
     if not isinstance(left, tuple):
         raise InvalidLeft(None)
     for index, value in enumerate(left):
-        if not _is_integer(value) or not 0 <= value < many or value in left[:index]:
+        if not is_integer(value) or not 0 <= value < many or value in left[:index]:
             raise InvalidLeft(index)
-
-
-def _is_integer(value):
-    return isinstance(value, int) and not isinstance(value, bool)

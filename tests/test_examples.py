@@ -41,6 +41,21 @@ answer bob two ann\\nanswer ann two bob")
 ['| yes\\n>> lunch?', ('bob', 'ann'), (('|', 'yes'), ('>>', 'lunch?')), 'Mail of 2 lines from ann']
 '''
 
+NUMBERS = '''
+>>> from quotedthreads.books import Book
+>>> from quotedthreads.numbers import behind, longest, shortest
+>>> from quotedthreads.telling import can_be, clear, confusion
+>>> book = Book.read("person ann >\\nperson bob |\\nprogram two\\nbegin >>: >>\\nelse: >\\n\
+answer bob two ann\\nanswer ann two bob")
+>>> [clear(book), confusion(book), can_be(book, "ann", ">"), can_be(book, "ann", ">>")]
+[False, ('>>', 'ann', 'ann', 'bob'), ('bob',), ('ann', 'bob')]
+>>> [behind(book, "ann", "ann", ">>"), behind(book, "bob", "ann", ">>"), behind(book, "ann", "bob", ">"), \
+behind(book, "ann", "ann", ">"), longest(book, "ann")]
+[(2, None), (3, None), (1, 1), None, 2]
+>>> shortest(book, "bob", "ann", ">>")
+(('ann', 'two'), ('bob', 'two'), ('ann', 'two'))
+'''
+
 TEXT = """program two
 begin >>: >>
 only: @
@@ -68,6 +83,9 @@ class Examples(unittest.TestCase):
 
     def test_mails_as_the_document_shows_them(self):
         self.assert_runs(MAILS, "mails", 5)
+
+    def test_numbers_as_the_document_shows_them(self):
+        self.assert_runs(NUMBERS, "numbers", 7)
 
     def test_the_text_that_the_document_shows(self):
         from quotedthreads.programs import Program

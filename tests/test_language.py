@@ -21,6 +21,12 @@ BARRED = (
 BARRED_NODES = (
     ast.Global, ast.AsyncFunctionDef, ast.AsyncFor, ast.AsyncWith, ast.Await, ast.TryStar, ast.Div, ast.GeneratorExp,
 )
+LIBRARY = {
+    "heapq": ("heappush", "heappop", "heapify", "heapreplace", "heappushpop"),
+    "itertools": ("combinations", "permutations", "product"),
+    "math": ("gcd", "lcm", "isqrt", "comb", "perm", "factorial"),
+}
+BUILTIN_METHODS = [name for kind in (str, int, list, dict, set, bytes) for name in dir(kind)]
 DECORATORS = ("property", "classmethod", "staticmethod")
 # The name _ is one only while doctest runs.
 OWN_OF_PYTHON = [name for name in dir(builtins) if name != "_"]
@@ -63,11 +69,20 @@ class Rules(unittest.TestCase):
             found += [node.targets[0].id for node in tree.body if isinstance(node, ast.Assign)]
             defined["quotedthreads." + name[:-3]] = found
         for name, node in nodes(ast.ImportFrom):
-            if node.module not in ("heapq", "math", "itertools", "collections"):
-                for alias in node.names:
-                    with self.subTest(file=name, name=alias.name):
-                        self.assertIn(alias.name, defined[node.module])
-                        self.assertIsNone(alias.asname)
+            for alias in node.names:
+                with self.subTest(file=name, name=alias.name):
+                    self.assertIn(alias.name, LIBRARY.get(node.module) or defined[node.module])
+                    self.assertEqual((None, 0), (alias.asname, node.level))
+
+    def test_no_two_files_import_from_each_other(self):
+        needs = {name[:-3]: set() for name, _ in trees()}
+        for name, node in nodes(ast.ImportFrom):
+            if node.module not in LIBRARY:
+                needs[name[:-3]].add(node.module.removeprefix("quotedthreads."))
+        while needs:
+            free = [name for name in needs if not needs[name]]
+            self.assertNotEqual([], free, needs)
+            needs = {name: needs[name] - set(free) for name in needs if name not in free}
 
     def test_decorators(self):
         for name, node in nodes(ast.FunctionDef, ast.ClassDef):
@@ -75,6 +90,38 @@ class Rules(unittest.TestCase):
                 with self.subTest(file=name, name=node.name):
                     self.assertIsInstance(node, ast.FunctionDef)
                     self.assertIn(ast.unparse(decorator), (*DECORATORS, f"{node.name}.setter"))
+
+    def test_methods_properties_and_attributes(self):
+        kinds = {}
+        for _, node in nodes(ast.ClassDef):
+            for method in [part for part in node.body if isinstance(part, ast.FunctionDef)]:
+                kind = "".join([ast.unparse(decorator) for decorator in method.decorator_list]) or "method"
+                kinds.setdefault(method.name, set()).add(kind)
+        assigned = {node.attr for _, node in nodes(ast.Attribute) if isinstance(node.ctx, ast.Store)}
+        for name, found in kinds.items():
+            with self.subTest(name=name):
+                self.assertEqual(1, len(found))
+                self.assertNotIn(name, assigned)
+                if not name.startswith("__"):
+                    self.assertNotIn(name, BUILTIN_METHODS)
+        read = {node.attr for _, node in nodes(ast.Attribute) if isinstance(node.ctx, ast.Load)}
+        known = {*assigned, *kinds, *BUILTIN_METHODS, "__class__", "__name__"}
+        self.assertEqual(set(), read - known)
+
+    def test_is_stands_beside_none_true_and_false(self):
+        for name, node in nodes(ast.Compare):
+            for operator, other in zip(node.ops, node.comparators):
+                if isinstance(operator, (ast.Is, ast.IsNot)):
+                    with self.subTest(file=name, line=node.lineno):
+                        self.assertIn(getattr(other, "value", ...), (None, True, False))
+
+    def test_no_name_has_two_meanings_in_a_file(self):
+        for name, tree in trees():
+            outer = [node.name for node in ast.walk(tree) if isinstance(node, ast.ClassDef)]
+            outer += [alias.name for node in tree.body if isinstance(node, ast.ImportFrom) for alias in node.names]
+            inner = [node.arg for node in ast.walk(tree) if isinstance(node, ast.arg)]
+            inner += [node.id for node in ast.walk(tree) if isinstance(node, ast.Name) and isinstance(node.ctx, ast.Store)]
+            self.assertEqual([], [word for word in inner if word in outer], name)
 
     def test_builtins(self):
         for name, node in nodes(ast.Name):
