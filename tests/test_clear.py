@@ -90,7 +90,8 @@ class Compared(unittest.TestCase):
                 if found is not None:
                     wanted = confusions(book, found)
                     pairs = sorted({(one, other) for _, _, one, other in wanted})
-                    self.assertEqual(tuple([(book.names[one], book.names[other]) for one, other in pairs]), confused(book))
+                    self.assertEqual(tuple([(book.names[one], book.names[other]) for one, other in pairs]),
+                                     confused(book))
                     told = confusion(book)
                     if told is None:
                         self.assertEqual([], wanted)
@@ -207,7 +208,8 @@ class Told(unittest.TestCase):
 
     def test_marks_that_are_read_from_the_back(self):
         # The signs that differ stand behind all others: a and b are confused in no thread.
-        text = "person a >\nperson b |\nperson c :\nprogram p\nonly: @\nelse: :\nanswer c p a\nanswer c p b\nanswer c p c"
+        text = "person a >\nperson b |\nperson c :\nprogram p\nonly: @\nelse: :\n"
+        text += "answer c p a\nanswer c p b\nanswer c p c"
         self.assert_confusion(Book.read(text), None)
         # They are, if the ones ahead of them are taken away, and they, too.
         book = Book.read(text.replace("else: :", "only >: none\nonly |: none\nelse: :"))

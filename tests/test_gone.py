@@ -373,7 +373,8 @@ class Refused(unittest.TestCase):
 
     def test_nothing_is_changed_and_equal_calls_return_equal_results(self):
         texts = (str(TWO), str(LONG))
-        for call in (lambda: gone(LONG, "ann"), lambda: longer(OWN, "ann", 9), lambda: shortest(TWO, "ann", "bob", ">>"),
+        for call in (lambda: gone(LONG, "ann"), lambda: longer(OWN, "ann", 9),
+                     lambda: shortest(TWO, "ann", "bob", ">>"),
                      lambda: behind(TWO, "ann", "bob", ">>"), lambda: longest(TWO, "ann"),
                      lambda: idle_cases(LONG, "p"), lambda: gone_after(LONG, "bob")):
             self.assertEqual([call()] * 3, [call() for _ in range(3)])

@@ -120,7 +120,8 @@ class Rules(unittest.TestCase):
             outer = [node.name for node in ast.walk(tree) if isinstance(node, ast.ClassDef)]
             outer += [alias.name for node in tree.body if isinstance(node, ast.ImportFrom) for alias in node.names]
             inner = [node.arg for node in ast.walk(tree) if isinstance(node, ast.arg)]
-            inner += [node.id for node in ast.walk(tree) if isinstance(node, ast.Name) and isinstance(node.ctx, ast.Store)]
+            inner += [node.id for node in ast.walk(tree) if isinstance(node, ast.Name)
+                      and isinstance(node.ctx, ast.Store)]
             self.assertEqual([], [word for word in inner if word in outer], name)
 
     def test_builtins(self):

@@ -85,7 +85,8 @@ class Clearing(unittest.TestCase):
         draw = random.Random(1)
         kinds = []
         for _ in range(900):
-            book = drawn_book(draw, draw.choice((2, 2, 3)), draw.randint(2, 4), draw.randint(2, 5), lengths=(1, 2, 2, 3))
+            book = drawn_book(draw, draw.choice((2, 2, 3)), draw.randint(2, 4), draw.randint(2, 5),
+                              lengths=(1, 2, 2, 3))
             if clear(book) and draw.random() < 0.9:
                 continue
             exchanges = []

@@ -39,6 +39,9 @@ class Compared(unittest.TestCase):
             return "later"
         self.assertEqual(lengths[0], least, str(book))
         if greatest is None:
+            if walk.longest >= 25:
+                # Whatever goes round there does so in a few answers.
+                self.assertGreater(lengths[-1], walk.longest - 12, str(book))
             return "ever"
         self.assertLessEqual(lengths[-1], greatest)
         if greatest <= walk.longest:
@@ -72,7 +75,7 @@ class Compared(unittest.TestCase):
         draw = random.Random(2)
         kinds = []
         for book in drawn_books(3, 30, gone=0.03, lengths=(0, 0, 1, 2)):
-            kinds += self.assert_walks(draw, book, 25, 4)
+            kinds += self.assert_walks(draw, book, 40, 4)
         self.assertGreater(kinds.count("ever"), 100)
 
     def test_all_standings(self):
@@ -110,7 +113,8 @@ class Compared(unittest.TestCase):
 
 class Behind(unittest.TestCase):
     def assert_behind(self, book, writer, sender, marks, told, thread=None):
-        for found in (behind(book, writer, sender, marks), behind(marks=marks, sender=sender, writer=writer, book=book)):
+        for found in (behind(book, writer, sender, marks),
+                      behind(marks=marks, sender=sender, writer=writer, book=book)):
             self.assertEqual(told, found)
             if told is not None:
                 self.assertIs(tuple, found.__class__)
@@ -178,8 +182,8 @@ class Behind(unittest.TestCase):
         self.assert_behind(book, "bob", "bob", ">", (1, None))
         self.assert_behind(book, "ann", "ann", "", (0, 0))
         # Only behind other marks that stay the same for a while.
-        book = Book.read("person a >\nperson b |\nprogram same\nonly: >\nelse: none\nprogram more\nonly: gone\nelse: |\n"
-                         "answer a same a\nanswer b more a")
+        book = Book.read("person a >\nperson b |\nprogram same\nonly: >\nelse: none\n"
+                         "program more\nonly: gone\nelse: |\nanswer a same a\nanswer b more a")
         self.assert_behind(book, "a", "b", "|>", (2, None), (("a", "same"), ("b", "more")))
         # The marks grow and shrink between.
         book = Book.read("person a >\nperson b |\nprogram up\nelse: #\nprogram down\nbegin #: none\nelse: gone\n"
