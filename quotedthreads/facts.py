@@ -22,8 +22,6 @@ class Facts:
         self._signs = book.signs + END
         self._goals = {}
         self._coming = {}
-        # The least number of answers, from the first mail on, after which a line stands at a node.
-        self._opened = {}
         self._offered = {}
         self._queue = []
         self._settle()
@@ -77,41 +75,39 @@ class Facts:
     def _settle(self):
         """Finds all facts with their least numbers.
 
-        They are settled in the order in which lines show them, by the number of answers from the first
-        mail on: what a fact is made of shows no later than the fact, so none is found too late.
+        The fact with the least number of all that are offered is settled. An arrow to an inner node is
+        offered, with no answers, only when a rule needs it. That is soon enough: nothing is read to the
+        node before, and what is read on from there takes an answer more than what the rule was used on.
         """
         for place in range(self.nodes.size):
-            end = self.nodes.end(place)
-            self._opened[end] = 0
-            self._offer((place, END, end), 0)
+            self._offer((place, END, self.nodes.end(place)), 0)
         while self._queue:
-            _, number, fact = heappop(self._queue)
+            number, fact = heappop(self._queue)
             if fact not in self.least:
                 self._keep(fact, number)
 
     def _offer(self, fact, number):
         if fact not in self._offered or number < self._offered[fact]:
             self._offered[fact] = number
-            heappush(self._queue, (number + self._opened[fact[2]], number, fact))
+            heappush(self._queue, (number, fact))
 
     def _keep(self, fact, number):
         self.least[fact] = number
         node, text, goal = fact
         self._goals.setdefault((node, text), []).append(goal)
-        for before, sign in self.nodes.results.get((node, text), ()):
-            self._open(before, number + 1 + self._opened[goal])
-            self._offer((before, sign, goal), number + 1)
+        for start, sign in self.nodes.results.get((node, text), ()):
+            self._offer((start, sign, goal), number + 1)
+            self._open(start)
         if len(text) <= 1:
             self._coming.setdefault(goal, []).append((node, text))
             self._join(fact, number)
 
-    def _open(self, node, shown):
-        """Offers the arrows that lead to an inner node, if it is new, and to those ahead of it."""
-        while node in self.nodes.above and node not in self._opened:
-            self._opened[node] = shown
-            before, sign = self.nodes.above[node]
-            self._offer((before, sign, node), 0)
-            node = before
+    def _open(self, node):
+        """Offers the arrows that lead to an inner node, through those ahead of it."""
+        while node in self.nodes.above:
+            goal = node
+            node, sign = self.nodes.above[goal]
+            self._offer((node, sign, goal), 0)
 
     def _join(self, fact, number):
         """Offers what is read from people along this fact and one that is kept already."""

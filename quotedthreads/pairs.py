@@ -14,7 +14,7 @@ def confused_pairs(arrows, enough):
     seen = dict(group)
     groups = [("", group)]
     # Marks are looked at in their order, so each pair of nodes is seen with its first marks.
-    while groups and len(pairs) < enough:
+    while groups:
         longer = []
         for marks, group in groups:
             for pair in _pairs_at(arrows, group):
