@@ -12,25 +12,19 @@ from quotedthreads.ways import ahead_of, most_along, rows_ahead, way_along, way_
 
 def behind(book, writer, sender, marks):
     """The least and the greatest number of answers behind a standing, None if it is never reached."""
-    check_standing(book, writer, sender, marks)
-    facts = Facts(book)
-    texts = [*marks, END]
-    rows = rows_ahead(facts, texts, {_end(facts, writer): 0})
-    place = facts.nodes.places[sender]
-    if place not in rows[0]:
+    ways = _ways_to(book, writer, sender, marks)
+    if ways is None:
         return None
+    facts, place, texts, rows = ways
     return (rows[0][place], most_along(facts, place, texts, rows))
 
 
 def shortest(book, writer, sender, marks):
     """A thread of the least length that leads to a standing, None if none does."""
-    check_standing(book, writer, sender, marks)
-    facts = Facts(book)
-    texts = [*marks, END]
-    rows = rows_ahead(facts, texts, {_end(facts, writer): 0})
-    place = facts.nodes.places[sender]
-    if place not in rows[0]:
+    ways = _ways_to(book, writer, sender, marks)
+    if ways is None:
         return None
+    facts, place, texts, rows = ways
     return facts.thread(way_along(facts, place, texts, rows))
 
 
@@ -96,6 +90,16 @@ def idle_cases(book, program):
                 if arrows.reached(arrows.nodes.places[whom], context):
                     met[cases.taken(marks_of(context))] = True
     return tuple([index for index in range(len(cases.cases)) if index not in met])
+
+
+def _ways_to(book, writer, sender, marks):
+    """The ways from a standing to the end of the writer, as they are passed to be followed; None if there are none."""
+    check_standing(book, writer, sender, marks)
+    facts = Facts(book)
+    place = facts.nodes.places[sender]
+    texts = [*marks, END]
+    rows = rows_ahead(facts, texts, {_end(facts, writer): 0})
+    return (facts, place, texts, rows) if place in rows[0] else None
 
 
 def _end(facts, writer):

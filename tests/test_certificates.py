@@ -15,16 +15,9 @@ from quotedthreads.checker import accepts
 from quotedthreads.errors import InvalidCount, InvalidMarks, NotABook, UnknownPerson
 from quotedthreads.numbers import gone_after, longest
 from quotedthreads.telling import confusion, reaches
-from tests.values import NO_NAMES, STRANGE, marks_up_to
-from tests.walks import drawn_book, drawn_books
+from tests.values import NO_NAMES, STRANGE, Refusing, marks_up_to
+from tests.walks import TWO, drawn_book, drawn_books
 
-TWO = Book.read("""person ann >
-person bob |
-program two
-begin >>: >>
-else: >
-answer bob two ann
-answer ann two bob""")
 TEXT = str(TWO)
 FUNCTIONS = (certify_can, certify_never, certify_confused, certify_gone, certify_kept, certify_within)
 
@@ -150,13 +143,7 @@ class Made(CertificateTests):
         self.assert_writer(book, "a", range(21))
 
 
-class Refused(CertificateTests):
-    def assert_refused(self, error, given, *calls):
-        for call in calls:
-            with self.assertRaises(error) as caught:
-                call()
-            self.assertIs(given, caught.exception.given)
-
+class Refused(Refusing):
     def test_the_book_first(self):
         for value in [*STRANGE, TEXT, (TWO,), Book]:
             self.assert_refused(

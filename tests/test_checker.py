@@ -8,15 +8,8 @@ from quotedthreads.checker import accepts
 from quotedthreads.numbers import gone_after, longest
 from quotedthreads.telling import reaches
 from tests.values import NO_NAMES, SIGNS, STRANGE, EqualToAll
-from tests.walks import drawn_book, made
+from tests.walks import TWO, drawn_book, made
 
-TWO = Book.read("""person ann >
-person bob |
-program two
-begin >>: >>
-else: >
-answer bob two ann
-answer ann two bob""")
 TEXT = str(TWO)
 # A machine for ann: lines with no marks, >, >> are read as they come.
 MACHINE = (("ann", "_", 0), ("bob", ">", 1), ("ann", ">", 2), ("bob", ">", 2), ("bob", ">", 3), ("ann", ">", 3),

@@ -6,16 +6,8 @@ from quotedthreads.numbers import shortest
 from quotedthreads.telling import can_be, clear, confused, confusion
 from quotedthreads.threads import led
 from tests.values import SIGNS, marks_up_to
-from tests.walks import by_marks, drawn_book, drawn_books, walks, whole_walks
+from tests.walks import OWN, TWO, by_marks, drawn_book, drawn_books, walks, whole_walks
 
-TWO = Book.read("""person ann >
-person bob |
-program two
-begin >>: >>
-else: >
-answer bob two ann
-answer ann two bob""")
-OWN = Book.read("person ann >\nperson bob |\nprogram own\nelse: @\nanswer bob own ann\nanswer ann own bob")
 
 
 def confusions(book, found):

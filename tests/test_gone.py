@@ -6,17 +6,9 @@ from quotedthreads.books import Book
 from quotedthreads.errors import InvalidCount, InvalidThread, NotABook, UnknownPerson, UnknownProgram
 from quotedthreads.numbers import behind, gone, gone_after, idle_cases, longer, longest, shortest
 from quotedthreads.threads import led
-from tests.values import NO_NAMES, STRANGE
-from tests.walks import Whole, drawn_book, drawn_books, walks, whole_walks
+from tests.values import NO_NAMES, STRANGE, Refusing
+from tests.walks import OWN, TWO, Whole, drawn_book, drawn_books, walks, whole_walks
 
-TWO = Book.read("""person ann >
-person bob |
-program two
-begin >>: >>
-else: >
-answer bob two ann
-answer ann two bob""")
-OWN = Book.read("person ann >\nperson bob |\nprogram own\nelse: @\nanswer bob own ann\nanswer ann own bob")
 # It takes many answers until a line is gone, or is treated by some of the cases.
 LONG = Book.read("""person ann |
 person bob >
@@ -330,13 +322,7 @@ class IdleCases(unittest.TestCase):
         self.assert_idle(LONGEST, "r", 3)
 
 
-class Refused(unittest.TestCase):
-    def assert_refused(self, error, given, *calls):
-        for call in calls:
-            with self.assertRaises(error) as caught:
-                call()
-            self.assertIs(given, caught.exception.given)
-
+class Refused(Refusing):
     def test_the_book_first(self):
         for value in [*STRANGE, str(TWO), (TWO,), Book]:
             self.assert_refused(

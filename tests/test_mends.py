@@ -9,15 +9,8 @@ from quotedthreads.mends import clearing, own_signs
 from quotedthreads.programs import Program
 from quotedthreads.telling import clear
 from tests.values import NO_NAMES, NO_SIGNS, SIGNS, STRANGE, EqualToAll
-from tests.walks import drawn_book, drawn_program
+from tests.walks import TWO, drawn_book, drawn_program
 
-TWO = Book.read("""person ann >
-person bob |
-program two
-begin >>: >>
-else: >
-answer bob two ann
-answer ann two bob""")
 PLAIN = Book.read("""person ann >
 person bob |
 program p

@@ -5,17 +5,9 @@ from quotedthreads.books import Book
 from quotedthreads.errors import InvalidMarks, NotABook, UnknownPerson
 from quotedthreads.numbers import behind, shortest
 from quotedthreads.threads import led
-from tests.values import NO_NAMES, STRANGE
-from tests.walks import Walk, by_marks, drawn_book, drawn_books, walks, whole_walks
+from tests.values import NO_NAMES, STRANGE, Refusing
+from tests.walks import OWN, TWO, Walk, by_marks, drawn_book, drawn_books, walks, whole_walks
 
-TWO = Book.read("""person ann >
-person bob |
-program two
-begin >>: >>
-else: >
-answer bob two ann
-answer ann two bob""")
-OWN = Book.read("person ann >\nperson bob |\nprogram own\nelse: @\nanswer bob own ann\nanswer ann own bob")
 
 
 class Compared(unittest.TestCase):
@@ -212,21 +204,26 @@ class Behind(unittest.TestCase):
         self.assertEqual((0, None), behind(book, "a", "a", ""))
         self.assertEqual(28, behind(book, "a", "b", "")[0])
 
-    def test_refused(self):
+
+class Refused(Refusing):
+    def test_the_book_first(self):
         for function in (behind, shortest):
             for value in [*STRANGE, str(TWO), (TWO,), Book]:
-                for call in (lambda: function(value, None, None, None), lambda: function(book=value, writer="ann",
-                             sender="ann", marks="")):
-                    with self.assertRaises(NotABook) as caught:
-                        call()
-                    self.assertIs(value, caught.exception.given)
+                self.assert_refused(
+                    NotABook, value, lambda: function(value, None, None, None),
+                    lambda: function(marks="", sender="ann", writer="ann", book=value),
+                )
+
+    def test_then_the_people(self):
+        for function in (behind, shortest):
             for value in [*STRANGE, *NO_NAMES, "eve", "two", ("ann",)]:
-                for call in (lambda: function(TWO, value, None, None), lambda: function(TWO, "ann", value, None),
-                             lambda: function(TWO, value, "ann", ""), lambda: function(TWO, "ann", value, "")):
-                    with self.assertRaises(UnknownPerson) as caught:
-                        call()
-                    self.assertIs(value, caught.exception.given)
+                self.assert_refused(
+                    UnknownPerson, value,
+                    lambda: function(TWO, value, None, None), lambda: function(TWO, "ann", value, None),
+                    lambda: function(TWO, value, "eva", ""), lambda: function(TWO, "ann", value, ""),
+                )
+
+    def test_then_the_marks(self):
+        for function in (behind, shortest):
             for value in [*STRANGE, "@", "a", " ", "\n", "> >", ">>\n", "none", "_", ">_"]:
-                with self.assertRaises(InvalidMarks) as caught:
-                    function(TWO, "ann", "bob", value)
-                self.assertIs(value, caught.exception.given)
+                self.assert_refused(InvalidMarks, value, lambda: function(TWO, "ann", "bob", value))

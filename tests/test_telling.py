@@ -7,16 +7,9 @@ from quotedthreads.errors import InvalidMarks, NotABook, UnknownPerson
 from quotedthreads.numbers import shortest
 from quotedthreads.telling import can_be, can_be_anywhere, clear, confused, confusion, reaches
 from quotedthreads.threads import led
-from tests.values import NO_NAMES, SIGNS, STRANGE, marks_up_to
-from tests.walks import by_marks, drawn_book, drawn_books, walks, whole_walks
+from tests.values import NO_NAMES, SIGNS, STRANGE, Refusing, marks_up_to
+from tests.walks import TWO, by_marks, drawn_book, drawn_books, walks, whole_walks
 
-TWO = Book.read("""person ann >
-person bob |
-program two
-begin >>: >>
-else: >
-answer bob two ann
-answer ann two bob""")
 # cid's lines only get to him, and nobody answers dora.
 FOUR = Book.read("""person bob |
 person ann >
@@ -240,13 +233,7 @@ class Told(unittest.TestCase):
             self.assertIs(function, getattr(telling, function.__name__))
 
 
-class Refused(unittest.TestCase):
-    def assert_refused(self, error, given, *calls):
-        for call in calls:
-            with self.assertRaises(error) as caught:
-                call()
-            self.assertIs(given, caught.exception.given)
-
+class Refused(Refusing):
     def test_the_book_first(self):
         for value in [*STRANGE, str(TWO), (TWO,), Book, TWO.programs[0]]:
             self.assert_refused(

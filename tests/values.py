@@ -1,5 +1,6 @@
 """Values that several tests pass: programs, marks, and what may stand in the place of anything."""
 
+import unittest
 from itertools import product
 
 from quotedthreads.programs import Program
@@ -50,6 +51,16 @@ ELSE = ("", False, ">")
 NO_NAMES = ["", "abcdefghi", "a" * 100, "Ann", "aNn", "2ann", "0", " ann", "ann ", "ann\n", "a b", "a_b", "a-b", ">"]
 # Strings that are no signs.
 NO_SIGNS = ["", "@", "a", " ", "\n", ">>", "#*", ">|", "=>", "> ", ">\n", SIGNS, "none"]
+
+
+class Refusing(unittest.TestCase):
+    """For tests of errors that tell the value that was passed."""
+
+    def assert_refused(self, error, given, *calls):
+        for call in calls:
+            with self.assertRaises(error) as caught:
+                call()
+            self.assertIs(given, caught.exception.given)
 
 
 def plain(name):

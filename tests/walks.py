@@ -6,6 +6,16 @@ from quotedthreads.books import Book
 from quotedthreads.programs import Program
 from tests.values import SIGNS
 
+# The book of the document: marks grow to two signs, and stay so.
+TWO = Book.read("""person ann >
+person bob |
+program two
+begin >>: >>
+else: >
+answer bob two ann
+answer ann two bob""")
+# Marks grow without end and tell all who were answered.
+OWN = Book.read("person ann >\nperson bob |\nprogram own\nelse: @\nanswer bob own ann\nanswer ann own bob")
 NAMES = ("ann", "bob", "cid", "dora")
 
 
