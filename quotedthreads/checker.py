@@ -72,31 +72,34 @@ def _confuse(book, parts, threads):
 
 
 def _accepts_machine(book, word, parts, machine):
-    if not isinstance(machine, tuple) or not all([_is_triple(book, value) for value in machine]):
+    names = book.names
+    if not isinstance(machine, tuple) or not all([_is_triple(names, value) for value in machine]):
         return False
     arrows = _arrows_of(machine)
     end = _end_of(arrows, machine, parts[0])
-    rules = [(whom, context, who, made) for whom, context, who, _, made in rules_of(book)]
-    if end is None or not _is_closed(arrows, rules):
+    rules = rules_of(book)
+    known = {}
+    if end is None or not _is_closed(arrows, known, rules):
         return False
     if word == "never":
         return end not in _read(arrows, parts[1], parts[2] + END)
     if word == "kept":
-        return not any([made is None and _read(arrows, whom, context) for whom, context, _, made in rules])
-    return not _reads_more(machine, end, parts[1], book.names)
+        leaving = [(whom, context) for whom, context, _, _, made in rules if made is None]
+        return not any([_read_short(arrows, known, whom, context) for whom, context in leaving])
+    return not _reads_more(machine, end, parts[1], names)
 
 
-def _is_triple(book, value):
+def _is_triple(names, value):
     if not isinstance(value, tuple) or len(value) != 3:
         return False
     start, sign, goal = value
     if not isinstance(sign, str) or not (sign in ("", END) or is_sign(sign)):
         return False
-    return _is_node(book, start) and _is_node(book, goal)
+    return _is_node(names, start) and _is_node(names, goal)
 
 
-def _is_node(book, value):
-    return is_integer(value) or (isinstance(value, str) and value in book.names)
+def _is_node(names, value):
+    return is_integer(value) or (isinstance(value, str) and value in names)
 
 
 def _arrows_of(triples):
@@ -114,13 +117,26 @@ def _end_of(arrows, machine, writer):
     return ends[0] if len(ends) == 1 else None
 
 
-def _is_closed(arrows, rules):
-    for whom, context, who, made in rules:
+def _is_closed(arrows, known, rules):
+    for whom, context, who, _, made in rules:
         if made is not None:
-            reached = _read(arrows, who, made)
-            if not all([node in reached for node in _read(arrows, whom, context)]):
-                return False
+            nodes = _read_short(arrows, known, whom, context)
+            # Most contexts are read to no node: what is made of them need not be read.
+            if nodes:
+                reached = _read_short(arrows, known, who, made)
+                if not all([node in reached for node in nodes]):
+                    return False
     return True
+
+
+def _read_short(arrows, known, node, text):
+    """What `_read` returns for a string of a rule, kept among what is known: many of these begin alike."""
+    if (node, text) not in known:
+        if text:
+            known[node, text] = _step(arrows, _read_short(arrows, known, node, text[:-1]), text[-1:])
+        else:
+            known[node, text] = _read(arrows, node, text)
+    return known[node, text]
 
 
 def _read(arrows, node, text):

@@ -13,7 +13,8 @@ def is_sign(value):
 
 
 def is_marks(value):
-    return isinstance(value, str) and all([sign in SIGNS for sign in value])
+    # Without the signs at both its ends nothing is left exactly if there are only signs.
+    return isinstance(value, str) and value.strip(SIGNS) == ""
 
 
 def is_name(value):

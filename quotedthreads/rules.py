@@ -1,7 +1,5 @@
 """The rules of a book: what its answers make of the beginnings of marks."""
 
-from quotedthreads.threads import made_of
-
 END = "_"
 
 
@@ -18,11 +16,24 @@ def marks_of(context):
 
 def rules_of(book):
     """All rules (whom, context, who, program, made), None being made where the line is left out."""
+    contexts = contexts_of(book)
+    # Who answers makes no difference to what is made, and whom only where a put has an @.
+    drafts = {}
     rules = []
     for who, program, whom in book.answers:
-        for context in contexts_of(book):
-            made = made_of(book, program, whom, marks_of(context))
-            if made is not None and context.endswith(END):
-                made = made + END
+        if program not in drafts:
+            drafts[program] = _drafts(book.program(program), contexts)
+        own = book.own(whom)
+        for context, draft in zip(contexts, drafts[program]):
+            made = None if draft is None else draft.replace("@", own)
             rules.append((whom, context, who, program, made))
     return rules
+
+
+def _drafts(program, contexts):
+    """What a program makes of each context, with each @ of a put as it is."""
+    drafts = []
+    for context in contexts:
+        begin, _, put = program.cases[program.taken(marks_of(context))]
+        drafts.append(None if put is None else put + context[len(begin):])
+    return drafts
