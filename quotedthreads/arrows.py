@@ -13,12 +13,15 @@ class Arrows:
     """
 
     def __init__(self, book):
-        self.nodes = Nodes(book)
+        nodes = Nodes(book)
+        self.size = nodes.size
+        self.places = nodes.places
         self.book_signs = book.signs
-        self._rows = [{} for _ in range(self.nodes.count)]
-        for place in range(self.nodes.size):
-            self._rows[place][END] = 1 << self.nodes.end(place)
-        self._complete()
+        self._ends = [1 << nodes.end(place) for place in range(nodes.size)]
+        self._rows = [{} for _ in range(nodes.count)]
+        for place, end in enumerate(self._ends):
+            self._rows[place][END] = end
+        self._complete(nodes)
 
     def begin(self, place):
         """The nodes to which nothing is read from a person."""
@@ -44,7 +47,7 @@ class Arrows:
 
     def places_in(self, found):
         """The places of the people whose ends are among these nodes."""
-        return [place for place in range(self.nodes.size) if found & (1 << self.nodes.end(place))]
+        return [place for place, end in enumerate(self._ends) if found & end]
 
     def before(self, found, signs):
         """The nodes from which one of these signs is read to one of these nodes."""
@@ -52,14 +55,14 @@ class Arrows:
         for node, row in enumerate(self._rows):
             if any([row.get(sign, 0) & found for sign in signs]):
                 nodes |= 1 << node
-        for place in range(self.nodes.size):
+        for place in range(self.size):
             if self.begin(place) & nodes:
                 nodes |= 1 << place
         return nodes
 
     def leading_to(self, place):
         """The nodes from which any marks and the end are read to the end of the person at a place."""
-        nodes, more = 0, self.before(1 << self.nodes.end(place), END)
+        nodes, more = 0, self.before(self._ends[place], END)
         while nodes != more:
             nodes = more
             more = nodes | self.before(nodes, self.book_signs)
@@ -67,7 +70,7 @@ class Arrows:
 
     def most_signs(self, place):
         """The greatest number of signs that are read to the end of the person, None if there is none."""
-        people = (1 << self.nodes.size) - 1
+        people = (1 << self.size) - 1
         many = 0
         nodes = self.leading_to(place)
         more = self.before(nodes, self.book_signs)
@@ -81,36 +84,45 @@ class Arrows:
 
     def triples_to(self, place):
         """All arrows (node, sign, node) on ways to the end of the person at a place."""
-        kept = self.leading_to(place) | (1 << self.nodes.end(place))
+        kept = self.leading_to(place) | self._ends[place]
         triples = []
         for node, row in enumerate(self._rows):
             for sign, found in row.items():
                 triples.extend([(node, sign, goal) for goal in bits_of(found & kept)])
         return triples
 
-    def _complete(self):
+    def _complete(self, nodes):
         """Makes arrows by the rules as long as something new can be read."""
         known = {}
         more = True
         while more:
             more = False
-            for read, goals in self.nodes.results.items():
+            for read, goals in nodes.results.items():
                 place, context = read
                 found = self.reached(place, context)
                 if found != known.get(read, 0):
                     known[read] = found
                     more = True
                     for node, sign in goals:
-                        self._add(node, sign, found)
+                        self._add(nodes, node, sign, found)
 
-    def _add(self, node, sign, found):
+    def _add(self, nodes, node, sign, found):
         row = self._rows[node]
         row[sign] = row.get(sign, 0) | found
-        while node in self.nodes.above:
+        while node in nodes.above:
             inner = node
-            node, sign = self.nodes.above[inner]
+            node, sign = nodes.above[inner]
             row = self._rows[node]
             row[sign] = row.get(sign, 0) | (1 << inner)
+
+
+def arrows_of(book):
+    """The arrows of a book, which keeps them: many questions are asked about one book."""
+    return book.once(_new_arrows)
+
+
+def _new_arrows(book):
+    return Arrows(book)
 
 
 def bits_of(found):

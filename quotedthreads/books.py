@@ -35,6 +35,7 @@ class Book:
         self._signs = signs
         self._owns = owns
         self._named = named
+        self._results = {}
 
     @classmethod
     def read(cls, text):
@@ -101,6 +102,12 @@ class Book:
     def with_answers(self, answers):
         """The book with these answers in the place of its own."""
         return Book(self._people, self._programs, answers)
+
+    def once(self, work):
+        """What this function returns for the book. It is called once only: a book stays what it is."""
+        if work not in self._results:
+            self._results[work] = work(self)
+        return self._results[work]
 
     def __eq__(self, other):
         # Texts are equal exactly if these are: each part is written in one way only.

@@ -1,6 +1,6 @@
 """Certificates: claims for the checker, with what shows that they are true."""
 
-from quotedthreads.arrows import Arrows
+from quotedthreads.arrows import arrows_of
 from quotedthreads.numbers import gone, gone_after, longer, shortest
 from quotedthreads.telling import confusion, reaches
 
@@ -54,8 +54,8 @@ def certify_within(book, writer, many):
 
 def _machine(book, writer):
     """The arrows on ways to the end of the writer: they read just the marks that lines of the writer get."""
-    arrows = Arrows(book)
-    triples = arrows.triples_to(arrows.nodes.places[writer])
+    arrows = arrows_of(book)
+    triples = arrows.triples_to(arrows.places[writer])
     return tuple([(_node(book, start), sign, _node(book, goal)) for start, sign, goal in triples])
 
 

@@ -1,6 +1,6 @@
 """Numbers: how many answers lie behind lines, when they are gone, how many signs they get."""
 
-from quotedthreads.arrows import Arrows
+from quotedthreads.arrows import arrows_of
 from quotedthreads.books import check_book, check_person
 from quotedthreads.errors import InvalidCount
 from quotedthreads.facts import Facts
@@ -55,8 +55,8 @@ def longest(book, writer):
     """The greatest number of signs that lines of the writer get, None if there is no greatest."""
     check_book(book)
     check_person(book, writer)
-    arrows = Arrows(book)
-    return arrows.most_signs(arrows.nodes.places[writer])
+    arrows = arrows_of(book)
+    return arrows.most_signs(arrows.places[writer])
 
 
 def longer(book, writer, many):
@@ -82,12 +82,12 @@ def idle_cases(book, program):
     """The indexes of the cases of a program by which no line is ever treated in any thread of the book."""
     check_book(book)
     cases = book.program(program)
-    arrows = Arrows(book)
+    arrows = arrows_of(book)
     met = {}
     for _, name, whom in book.answers:
         if name == program:
             for context in contexts_of(book):
-                if arrows.reached(arrows.nodes.places[whom], context):
+                if arrows.reached(arrows.places[whom], context):
                     met[cases.taken(marks_of(context))] = True
     return tuple([index for index in range(len(cases.cases)) if index not in met])
 

@@ -29,7 +29,7 @@ def confused_pairs(arrows, enough):
 def _group_of_none(arrows):
     """The pairs of nodes to which no marks are read from one person, as a dict of all others for a node."""
     group = {}
-    for place in range(arrows.nodes.size):
+    for place in range(arrows.size):
         found = arrows.begin(place)
         for node in bits_of(found):
             group[node] = group.get(node, 0) | found
